@@ -453,8 +453,9 @@ func holdAgainst(t *testing.T, b api.Beat, a *account, self int, waits []uint32)
 // P8.3: who is heard is reached for wait ticks more and then no more, until it
 // is heard again; wherever the clock begins, up to its last tick.
 func TestReachedForWait(t *testing.T) {
-	for _, begin := range []uint32{1, 2, 1<<31 - 3, most32 - 20} {
-		for wait := range uint32(7) {
+	for wait := range uint32(7) {
+		// From the last of these on the clock comes to its last tick and stays.
+		for _, begin := range []uint32{1, 2, 1<<31 - 3, most32 - 20, most32 - wait - 2} {
 			b, ok := beat.Hear(api.Beat{Now: begin}, 6, 4)
 			if !ok {
 				t.Fatalf("not heard at %d", begin)
