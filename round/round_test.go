@@ -561,8 +561,8 @@ func notFewer(t *testing.T, c api.Counts, m api.Members, rounds []uint32, was ma
 }
 
 // P9.4: what may be delivered as agreed are just the members' places ahead of
-// Position. The clause is about counts below 2^32 - 1: there Position stays
-// (P9.3), where the frames of the last round may be delivered nonetheless.
+// Position. It is asked where Least is below 2^32 - 1: at that one Position stays
+// (P9.3), though the frames of the last round may be delivered (P9.2).
 func TestAheadOfPosition(t *testing.T) {
 	r := rand.New(rand.NewSource(95))
 	for range 4000 {
