@@ -174,7 +174,10 @@ func those[E any](l []E, holds func(E) bool) []E {
 // short tells the beginning of a list.
 func short(v any) string { return fmt.Sprintf("%.600s", fmt.Sprintf("%+v", v)) }
 
-func (b box) String() string { return short(struct{ box }{b}) }
+func (b box) String() string {
+	type plain box
+	return short(plain(b))
+}
 
 // unlike tells in what two boxes are; an empty list is as none.
 func (b box) unlike(other box) string {

@@ -154,12 +154,16 @@ func whole(l api.Lane) api.Lane {
 	return l
 }
 
-// memory is where a list with the room behind it begins and ends.
-type memory struct{ from, to uintptr }
+// memory is where a list with the room behind it begins and ends. It holds the
+// list, so that no later one gets its place.
+type memory struct {
+	from, to uintptr
+	list     any
+}
 
 func memoryOf[E any](l []E) memory {
 	v := reflect.ValueOf(l)
-	return memory{v.Pointer(), v.Pointer() + uintptr(v.Cap())*v.Type().Elem().Size()}
+	return memory{v.Pointer(), v.Pointer() + uintptr(v.Cap())*v.Type().Elem().Size(), l}
 }
 
 // memories is that of all lists of a lane.

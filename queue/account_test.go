@@ -244,12 +244,16 @@ func untouched(t *testing.T, call string, list []api.Wait, l line) {
 	}
 }
 
-// memory is where a list with the room behind it begins and ends.
-type memory struct{ from, to uintptr }
+// memory is where a list with the room behind it begins and ends. It holds the
+// list, so that no later one gets its place.
+type memory struct {
+	from, to uintptr
+	list     any
+}
 
 func memoryOf[E any](l []E) memory {
 	v := reflect.ValueOf(l)
-	return memory{v.Pointer(), v.Pointer() + uintptr(v.Cap())*v.Type().Elem().Size()}
+	return memory{v.Pointer(), v.Pointer() + uintptr(v.Cap())*v.Type().Elem().Size(), l}
 }
 
 // overlap tells whether two of some lists share memory.
